@@ -1,0 +1,1 @@
+"""Lanewright: loops over arrays, led to lanes."""

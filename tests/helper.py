@@ -1,0 +1,325 @@
+"""What the tests share: programs, odd things, and another, slow way to reckon what the program reckons."""
+
+import copy
+import itertools
+import random
+
+SIGNS = ("<", "=", ">", "*")
+SIZES_OF_ONE = range(1, 13)
+
+
+class Touchy:
+    """A thing that can't even be compared, measured or shown."""
+
+    __hash__ = None
+
+    def __eq__(self, other):
+        raise AssertionError("compared")
+
+    def __len__(self):
+        raise AssertionError("measured")
+
+    def __iter__(self):
+        raise AssertionError("gone over")
+
+    def __bool__(self):
+        raise AssertionError("asked for its truth")
+
+    def __repr__(self):
+        raise AssertionError("shown")
+
+
+def fifty_deep():
+    """A tuple of tuples, fifty deep."""
+    thing = ()
+    for _ in range(49):
+        thing = (thing,)
+    return thing
+
+
+# Nothing of this is a NAME, a COUNT, a tuple of one to three NAMES, or a number from 1 to 12.
+ODD_THINGS = [
+    None, True, False, -1, -(10 ** 3999), 10 ** 3999, "", "A", "a1", "a b", "ninesigns", "a\n", b"", b"a", [], [0], ["a"], {},
+    {"a": 1}, set(), {1}, frozenset(), (), (None,), (True,), ("A",), ([],), ((),), ((), ()), (0, [()]), ("a", "a"), range(3), object(),
+    object, len, lambda: 0, Touchy(), (Touchy(),), (Touchy(), Touchy()), (Touchy(), Touchy(), Touchy()),
+    (Touchy(), Touchy(), Touchy(), Touchy()), fifty_deep(),
+]
+
+
+def fixed(number):
+    """A COUNT without TERMS."""
+    return (number, ())
+
+
+def by(name, times=1, more=0):
+    """A COUNT with one of TERMS."""
+    return (more, ((name, times),))
+
+
+def at(array, *indexes):
+    """An EXPR that loads."""
+    return ("at", array, tuple(indexes))
+
+
+def put(array, indexes, expr):
+    return ("put", array, tuple(indexes), expr)
+
+
+def add(array, indexes, expr):
+    return ("add", array, tuple(indexes), expr)
+
+
+def num(word):
+    return ("num", word)
+
+
+# c = a * b, as loops tell it.
+PRODUCT = (
+    ("m", "n", "k"),
+    (
+        ("a", "given", (by("m"), by("k"))),
+        ("b", "given", (by("k"), by("n"))),
+        ("c", "told", (by("m"), by("n"))),
+    ),
+    (
+        (
+            (("i", by("m")), ("j", by("n")), ("t", by("k"))),
+            (add("c", (("i", 0), ("j", 0)), ("mul", at("a", ("i", 0), ("t", 0)), at("b", ("t", 0), ("j", 0)))),),
+        ),
+    ),
+)
+
+# Sums of neighbours, running sums behind these, and a nest that never goes.
+LINE = (
+    ("n",),
+    (
+        ("raw", "given", (by("n", 1, 2),)),
+        ("near", "own", (by("n"),)),
+        ("sums", "told", (by("n", 1, 1),)),
+        ("flag", "told", (fixed(1), fixed(3))),
+    ),
+    (
+        (
+            (("i", by("n")),),
+            (
+                put("near", (("i", 0),), ("add", at("raw", ("i", 0)), ("add", at("raw", ("i", 1)), at("raw", ("i", 2))))),
+                add("flag", (("", 0), ("", 2)), ("loop", "i")),
+            ),
+        ),
+        (
+            (("i", by("n")),),
+            (
+                put("sums", (("i", 1),), ("sub", at("sums", ("i", 0)), at("near", ("i", 0)))),
+                add("sums", (("", 0),), ("max", at("near", ("i", 0)), ("min", ("loop", "i"), num(65535)))),
+            ),
+        ),
+        (
+            (("i", by("n", 1, -1)), ("j", fixed(0))),
+            (put("flag", (("", 0), ("", 1)), num(9)),),
+        ),
+    ),
+)
+
+# Accesses whose INDEXES are by unlike loops, with gaps and numbers alone.
+CROSS = (
+    ("m", "n"),
+    (
+        ("g", "told", (by("m", 2, 9), (9, (("m", 1), ("n", 1))))),
+        ("h", "own", (by("n", 1, 9),)),
+        ("w", "given", (fixed(2),)),
+    ),
+    (
+        (
+            (("p", by("m")), ("q", by("n"))),
+            (
+                put("g", (("p", 3), ("q", 0)), at("g", ("p", 1), ("q", 2))),
+                put("g", (("p", 0), ("p", 1)), ("add", at("h", ("q", 4)), at("g", ("", 4), ("q", 1)))),
+                add("h", (("q", 1),), ("mul", at("w", ("", 1)), at("h", ("", 5)))),
+            ),
+        ),
+        (
+            (("p", by("m")), ("q", by("n"))),
+            (put("h", (("q", 9),), at("g", ("p", 2), ("", 8))),),
+        ),
+        (
+            (("q", by("n")), ("p", by("m"))),
+            (put("h", (("q", 0),), at("g", ("p", 0), ("q", 0))),),
+        ),
+        (
+            (("s", by("m")),),
+            (put("g", (("s", 2), ("", 7)), at("h", ("", 3))),),
+        ),
+    ),
+)
+
+PROGRAMS = [PRODUCT, LINE, CROSS]
+
+
+def deep_list(thing):
+    """The same thing with a list in the place of each tuple: unlike what it was made of, it can be changed."""
+    return [deep_list(part) for part in thing] if isinstance(thing, tuple) else thing
+
+
+def with_part(thing, path, part):
+    """A copy of nested tuples with another part at a path."""
+    if not path:
+        return part
+    rows = list(thing)
+    rows[path[0]] = with_part(rows[path[0]], path[1:], part)
+    return tuple(rows)
+
+
+def count_of(count, sizes):
+    return count[0] + sum(times * sizes[name] for name, times in count[1])
+
+
+def all_sizes(program):
+    return itertools.product(SIZES_OF_ONE, repeat=len(program[0]))
+
+
+def given_for(program, sizes, seed=0):
+    """WORDS for all "given" arrays, the edges of WORDS among them."""
+    chance = random.Random(seed)
+    named = dict(zip(program[0], sizes))
+    rows = []
+    for _, kind, dims in program[1]:
+        if kind == "given":
+            many = 1
+            for dim in dims:
+                many *= count_of(dim, named)
+            rows.append(tuple(chance.choice([0, 1, 65535, 65534, 32768, chance.randrange(65536)]) for _ in range(many)))
+    return tuple(rows)
+
+
+def slow_walk(program, sizes, given):
+    """Another plain walk: the program is written out as Python's own loops, and these are run."""
+    named = dict(zip(program[0], sizes))
+    cells, stores, loads, stands = {}, [], [], []
+    words = iter(given)
+    for name, kind, dims in program[1]:
+        spots = list(itertools.product(*[range(count_of(dim, named)) for dim in dims]))
+        cells[name] = dict(zip(spots, next(words) if kind == "given" else [0] * len(spots)))
+    stands.append(stand_shown(program, cells))
+    for nest, (loops, steps) in enumerate(program[2]):
+        text = written_out(nest, loops, steps, named)
+
+        def load(step, spots, array, cell, nest=nest):
+            loads.append((nest, step, spots, array, cell, cells[array][cell]))
+            return cells[array][cell]
+
+        def store(step, spots, array, cell, word, nest=nest):
+            cells[array][cell] = word % 65536
+            stores.append((nest, step, spots, array, cell, word % 65536))
+
+        exec(text, {"load": load, "store": store, "min": min, "max": max})
+        stands.append(stand_shown(program, cells))
+    return tuple(stores), tuple(loads), stands
+
+
+def stand_shown(program, cells):
+    return tuple((name, tuple(cells[name][cell] for cell in sorted(cells[name]))) for name, _, _ in program[1])
+
+
+def written_out(nest, loops, steps, named):
+    rows = []
+    for deep, (name, count) in enumerate(loops):
+        rows.append("    " * deep + f"for {name}_ in range({count_of(count, named)}):")
+    spots = "(" + "".join(name + "_, " for name, _ in loops) + ")"
+    for number, (word, array, indexes, expr) in enumerate(steps):
+        worth = expr_text(expr, number, spots)
+        if word == "add":
+            worth = f"{worth} + load({number}, {spots}, {array!r}, {cell_text(indexes)})"
+        rows.append("    " * len(loops) + f"store({number}, {spots}, {array!r}, {cell_text(indexes)}, {worth})")
+    return "\n".join(rows)
+
+
+def cell_text(indexes):
+    return "(" + "".join(f"{loop + '_' if loop else 0} + {more}, " for loop, more in indexes) + ")"
+
+
+def expr_text(expr, number, spots):
+    if expr[0] == "num":
+        return str(expr[1])
+    if expr[0] == "loop":
+        return expr[1] + "_"
+    if expr[0] == "at":
+        return f"load({number}, {spots}, {expr[1]!r}, {cell_text(expr[2])})"
+    one, other = expr_text(expr[1], number, spots), expr_text(expr[2], number, spots)
+    if expr[0] in ("min", "max"):
+        return f"{expr[0]}({one}, {other})"
+    return f"(({one} {dict(add='+', sub='-', mul='*')[expr[0]]} {other}) % 65536)"
+
+
+def chance_program(seed):
+    """A small PROGRAM by chance, with whatever INDEXES its arrays allow."""
+    chance = random.Random(seed)
+    names = ("aa", "ab", "ac")[:chance.randint(1, 3)]
+    sizes = names[:chance.randint(1, 2)]
+    arrays = []
+    for name in ("u", "v", "w", "z")[:chance.randint(2, 4)]:
+        dims = tuple(by(chance.choice(sizes), 1, chance.randint(0, 3)) for _ in range(chance.randint(1, 2)))
+        arrays.append((name, chance.choice(["given", "told", "own"]) if arrays else "told", dims))
+    nests = []
+    for _ in range(chance.randint(1, 3)):
+        loops = tuple((name, by(chance.choice(sizes), 1, chance.randint(-1, 0)))
+                      for name in ("i", "j", "k")[:chance.randint(1, 2)])
+        steps = tuple(chance_step(chance, arrays, loops) for _ in range(chance.randint(1, 3)))
+        nests.append((loops, steps))
+    return (sizes, tuple(arrays), tuple(nests))
+
+
+def chance_place(chance, array, loops):
+    indexes = []
+    for dim in array[2]:
+        fit = [("", more) for more in range(dim[0] + 1) if more < 10]
+        for name, count in loops:
+            if count[1] == dim[1]:
+                fit.extend([(name, more) for more in range(dim[0] - count[0] + 1)] * 3)
+        indexes.append(chance.choice(fit))
+    return tuple(indexes)
+
+
+def chance_expr(chance, arrays, loops, deep):
+    kind = chance.choice(["num", "loop", "at", "at", "op", "op"])
+    if kind == "num":
+        return num(chance.choice([0, 1, 65535, chance.randrange(65536)]))
+    if kind == "loop":
+        return ("loop", chance.choice(loops)[0])
+    if kind == "at" or deep == 1:
+        array = chance.choice(arrays)
+        return ("at", array[0], chance_place(chance, array, loops))
+    op = chance.choice(["add", "sub", "mul", "min", "max"])
+    return (op, chance_expr(chance, arrays, loops, deep - 1), chance_expr(chance, arrays, loops, deep - 1))
+
+
+def chance_step(chance, arrays, loops):
+    array = chance.choice([array for array in arrays if array[1] != "given"])
+    expr = chance_expr(chance, arrays, loops, 3)
+    return (chance.choice(["put", "add"]), array[0], chance_place(chance, array, loops), expr)
+
+
+class Kept:
+    """Sees to it that what is handed in stays as it was."""
+
+    def __init__(self, case, *things):
+        self.case = case
+        self.things = things
+        self.copies = copy.deepcopy(things)
+
+    def __enter__(self):
+        return self
+
+    def __exit__(self, kind, value, trace):
+        if kind is None:
+            self.case.assertEqual(self.things, self.copies)
+
+
+def refused(case, error, field, about, call, *things, **named):
+    """Sees to it that a call is refused by just this class, with just this field."""
+    with case.assertRaises(error) as seen:
+        call(*things, **named)
+    case.assertIs(type(seen.exception), error)
+    told = getattr(seen.exception, field)
+    if told is not about:
+        case.assertEqual(told, about)
+        case.assertIs(type(told), type(about))
