@@ -1,0 +1,58 @@
+"""The interface: names, arguments and values that stand where nothing is handed in, in the files that list them."""
+
+import importlib
+import inspect
+import unittest
+
+FUNCTIONS = {
+    "words": [
+        "is_whole(thing, *, least=0, most=65535)", "is_name(thing)", "reckoned(op, one, other)",
+    ],
+    "counts": [
+        "is_count(thing, names)", "count_at(count, sizes)", "least_of(count)", "greatest_of(count)", "at_most(count, other)",
+        "worst_sizes(count, other, names)",
+    ],
+    "programs": [
+        "need_program(thing)", "need_head(sizes, arrays)", "accesses_of(program, nest)", "loops_of(program, nest)",
+        "are_like(program, nest, other)", "array_of(program, name)", "cell_at(program, nest, access, spots)",
+        "need_sizes(program, sizes)", "dims_at(program, name, sizes)", "cells_at(program, name, sizes)",
+        "rounds_at(program, nest, sizes)",
+    ],
+    "plain": [
+        "plain_run(program, sizes, given)", "stand_behind(program, sizes, given, nest)", "tale(program, sizes, given)",
+        "reads(program, sizes, given)", "traffic(program, sizes, given)", "last_writer(program, sizes, given, nest, array, cell)",
+    ],
+    "meetings": [
+        "binds(program, one, other, pattern)", "meeting(program, one, other, pattern)", "ring(program, one, other, pattern)",
+        "check_ring(program, one, other, pattern, paper)", "binds_apart(program, one, other)", "meeting_apart(program, one, other)",
+        "meets_at(program, one, other, sizes, x, y)", "ring_of(rows)", "need_ring(rows, paper)",
+    ],
+}
+CLASSES = {
+    ("walk", "Walk"): ["__init__(self, program, sizes, given)", "step(self, many=1)", "back(self, many=1)", "at(self)", "is_over(self)",
+                       "cell(self, array, cell)", "stand(self)", "walk_twin(self)", "__eq__(self, other)", "__len__(self)",
+                       "__repr__(self)"],
+}
+
+
+class Interface(unittest.TestCase):
+    def test_functions(self):
+        for file, rows in FUNCTIONS.items():
+            module = importlib.import_module(f"lanewright.{file}")
+            for row in rows:
+                name = row.split("(")[0]
+                function = getattr(module, name)
+                self.assertEqual(name + str(inspect.signature(function)), row)
+                self.assertEqual(function.__module__, f"lanewright.{file}")
+
+    def test_classes_have_their_methods_in_their_own_bodies(self):
+        for (file, name), rows in CLASSES.items():
+            kind = getattr(importlib.import_module(f"lanewright.{file}"), name)
+            self.assertEqual(kind.__module__, f"lanewright.{file}")
+            for row in rows:
+                method = vars(kind)[row.split("(")[0]]
+                self.assertEqual(method.__name__ + str(inspect.signature(method)), row)
+
+
+if __name__ == "__main__":
+    unittest.main()
