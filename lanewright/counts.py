@@ -1,6 +1,6 @@
 """COUNTS: numbers told by sizes."""
 
-from lanewright.parts import is_one_of, is_row
+from lanewright.parts import is_one_of, is_row, multiplied
 from lanewright.words import MOST_SIZE, is_whole
 
 MOST_FIXED = 20
@@ -58,10 +58,7 @@ def greatest_of(count):
 
 def product_of_greatest(counts):
     """All of some COUNTS multiplied, where all sizes are the greatest."""
-    product_so_far = 1
-    for count in counts:
-        product_so_far = product_so_far * greatest_of(count)
-    return product_so_far
+    return multiplied([greatest_of(count) for count in counts])
 
 
 def times_more(count, other):

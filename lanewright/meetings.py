@@ -2,7 +2,7 @@
 
 from lanewright.counts import count_at, greatest_of
 from lanewright.errors import BadKind, BadNumber, BadPaper
-from lanewright.parts import cell_by, is_one_of, is_row, nest_accesses, sizes_by_name, spots_by_name
+from lanewright.parts import cell_by, is_one_of, is_row, nest_accesses, sizes_by_name, spots_below, spots_by_name
 from lanewright.programs import need_access, need_nest, need_program, need_sizes
 from lanewright.words import MOST_SIZE, is_number, is_whole
 
@@ -31,6 +31,11 @@ def need_pattern(loops, pattern):
     """None; refuses of anything what is no PATTERN for LOOPS."""
     if not is_row(pattern, len(loops), len(loops)) or not all([is_one_of(sign, SIGNS) for sign in pattern]):
         raise BadKind("pattern")
+
+
+def plain_patterns(many):
+    """A rising list of all PATTERNS without "*" for so many loops."""
+    return [tuple([SIGNS[number] for number in row]) for row in spots_below((SIGNS.index("*"),) * many)]
 
 
 def loops_by(program, side):
@@ -278,3 +283,12 @@ def are_ring_numbers(rows, thing):
     if len(thing) == 0:
         return len(rows) == 0
     return thing[0] == min(thing) and len(set(thing)) == len(thing)
+
+
+def is_ring(rows, thing):
+    """Whether anything is a RING of triples."""
+    try:
+        need_ring(rows, thing)
+    except BadPaper:
+        return False
+    return True

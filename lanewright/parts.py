@@ -1,6 +1,6 @@
 """What the other files share: forms of things, and the parts of a PROGRAM that is known to be good."""
 
-from lanewright.words import is_whole
+from lanewright.words import is_number, is_whole
 
 
 def is_one_of(thing, words):
@@ -13,11 +13,29 @@ def is_row(thing, least, most):
     return isinstance(thing, tuple) and least <= len(thing) <= most
 
 
+def is_same(thing, due):
+    """Whether anything is the very tuples, texts and whole numbers that are due."""
+    if isinstance(due, tuple):
+        return is_row(thing, len(due), len(due)) and all([is_same(part, wanted) for part, wanted in zip(thing, due)])
+    # Texts and numbers alone are compared: anything else may not even let itself be compared.
+    if isinstance(due, str):
+        return isinstance(thing, str) and thing == due
+    return is_number(thing) and thing == due
+
+
 def is_cell(thing, dims):
     """Whether anything is a CELL of an array with dims that are numbers."""
     if not is_row(thing, len(dims), len(dims)):
         return False
     return all([is_whole(spot, most=dim - 1) for spot, dim in zip(thing, dims)])
+
+
+def multiplied(numbers):
+    """All of some numbers multiplied; 1 of none."""
+    found = 1
+    for number in numbers:
+        found = found * number
+    return found
 
 
 def spots_below(dims):
@@ -65,6 +83,11 @@ def step_accesses(step):
 def nest_accesses(nest):
     """A list of pairs (STEP's number, ACCESS) of a nest, in order."""
     return [(number, access) for number, step in enumerate(nest[1]) for access in step_accesses(step)]
+
+
+def are_bound(one, other):
+    """Whether two ACCESSES are of one array, one of both a "store"."""
+    return one[1] == other[1] and "store" in (one[0], other[0])
 
 
 def spots_by_name(loops, spots):

@@ -4,6 +4,8 @@ import copy
 import itertools
 import random
 
+from lanewright.programs import accesses_of
+
 SIGNS = ("<", "=", ">", "*")
 SIZES_OF_ONE = range(1, 13)
 
@@ -44,6 +46,9 @@ ODD_THINGS = [
     object, len, lambda: 0, Touchy(), (Touchy(),), (Touchy(), Touchy()), (Touchy(), Touchy(), Touchy()),
     (Touchy(), Touchy(), Touchy(), Touchy()), fifty_deep(),
 ]
+
+
+ODD_NUMBERS = [None, True, False, -1, 99, "0", b"0", (0,), [0], {}, 10 ** 3999, object(), int, Touchy()]
 
 
 def fixed(number):
@@ -298,6 +303,82 @@ def chance_step(chance, arrays, loops):
     return (chance.choice(["put", "add"]), array[0], chance_place(chance, array, loops), expr)
 
 
+def sides_of(program, nests=None):
+    return [(nest, number) for nest in (range(len(program[2])) if nests is None else nests)
+            for number in range(len(accesses_of(program, nest)))]
+
+
+def access_at(program, side):
+    return accesses_of(program, side[0])[side[1]][1]
+
+
+def loops_at(program, side):
+    return program[2][side[0]][0]
+
+
+def rounds_by_cell(program, side, sizes):
+    """All ROUNDS, rising, of each CELL to which an ACCESS comes."""
+    named = dict(zip(program[0], sizes))
+    loops = loops_at(program, side)
+    indexes = access_at(program, side)[2]
+    found = {}
+    for spots in itertools.product(*[range(count_of(count, named)) for _, count in loops]):
+        where = dict(zip([name for name, _ in loops], spots))
+        cell = tuple(where.get(loop, 0) + more for loop, more in indexes)
+        found.setdefault(cell, []).append(spots)
+    return found
+
+
+def fits(pattern, x, y):
+    looks = {"<": lambda a, b: a < b, "=": lambda a, b: a == b, ">": lambda a, b: a > b, "*": lambda a, b: True}
+    return all(looks[sign](a, b) for sign, a, b in zip(pattern, x, y))
+
+
+def slow_meeting(program, one, other, pattern):
+    """The MEETING with the least X, then Y, found by looking at all ROUNDS of the greatest sizes."""
+    if access_at(program, one)[1] != access_at(program, other)[1]:
+        return None
+    sizes = (12,) * len(program[0])
+    there = rounds_by_cell(program, other, sizes)
+    pairs = ((x, y) for cell, xs in rounds_by_cell(program, one, sizes).items() for x in xs for y in there.get(cell, ()))
+    best = min((pair for pair in pairs if fits(pattern, *pair)), default=None)
+    return None if best is None else (sizes, *best)
+
+
+def slow_binds(program, one, other, pattern):
+    """BINDS as the document tells them, in three parts."""
+    loops, there = loops_at(program, one), loops_at(program, other)
+    rows = []
+    for k in range(max(len(loops), len(there))):
+        for letter, some in (("x", loops), ("y", there)):
+            if k < len(some):
+                most = some[k][1][0] + 12 * sum(times for _, times in some[k][1][1])
+                rows += [(0, (letter, k), 0), ((letter, k), 0, most - 1)]
+    named = [name for name, _ in loops], [name for name, _ in there]
+    for (loop, more), (loop_there, more_there) in zip(access_at(program, one)[2], access_at(program, other)[2]):
+        u = ("x", named[0].index(loop)) if loop else 0
+        v = ("y", named[1].index(loop_there)) if loop_there else 0
+        rows += [(u, v, more_there - more), (v, u, more - more_there)]
+    for k, sign in enumerate(pattern):
+        rows += {"<": [(("x", k), ("y", k), -1)], ">": [(("y", k), ("x", k), -1)], "*": [],
+                 "=": [(("x", k), ("y", k), 0), (("y", k), ("x", k), 0)]}[sign]
+    return rows
+
+
+def is_ring(rows, paper):
+    """None, or what BadPaper tells, by the words of the document."""
+    if not isinstance(paper, tuple) or any(type(number) is not int for number in paper):
+        return (None,)
+    if rows and (not paper or min(paper) != paper[0] or len(set(paper)) < len(paper) or paper[0] < 0 or max(paper) >= len(rows)):
+        return (None,)
+    if not rows:
+        return None if paper == () else (None,)
+    for k, number in enumerate(paper):
+        if rows[number][1] != rows[(paper[1:] + paper[:1])[k]][0]:
+            return (k,)
+    return None if sum(rows[number][2] for number in paper) < 0 else ("sum",)
+
+
 class Kept:
     """Sees to it that what is handed in stays as it was."""
 
@@ -323,3 +404,50 @@ def refused(case, error, field, about, call, *things, **named):
     if told is not about:
         case.assertEqual(told, about)
         case.assertIs(type(told), type(about))
+
+
+def is_bound(program, one, other):
+    """Whether two ACCESSES are of one array, one of both a "store"."""
+    (kind, array, _), (kind_there, array_there, _) = access_at(program, one), access_at(program, other)
+    return array == array_there and "store" in (kind, kind_there)
+
+
+def cube(*steps):
+    """A PROGRAM of one nest of three loops, whose STEPS come to one array."""
+    loops = (("i", by("m")), ("j", by("n")), ("k", fixed(3)))
+    return (("m", "n"), (("a", "told", (by("m", 1, 9), by("n", 1, 9))),), ((loops, steps),))
+
+
+# The first loop is FREE alone, though the others meet in many ways; then none is; then all but the last one are.
+DEEP = cube(put("a", (("i", 0), ("j", 1)), at("a", ("i", 0), ("k", 2))), add("a", (("i", 0), ("k", 0)), at("a", ("i", 0), ("", 8))))
+DENSE = cube(put("a", (("i", 1), ("j", 0)), at("a", ("i", 1), ("j", 1))), add("a", (("", 0), ("j", 2)), at("a", ("k", 0), ("j", 1))))
+TWICE = (("m",), (("a", "own", (by("m"), by("m", 1, 1))),), ((
+    (("i", by("m")), ("j", fixed(2))), (add("a", (("i", 0), ("i", 1)), ("loop", "j")),),),))
+# Lanes may have the first loop, though it is by this nest that "own" cells are shared by all of the second one.
+ROWS = (
+    ("m", "n"),
+    (
+        ("raw", "given", (by("m", 1, 2), by("n"))),
+        ("row", "own", (by("m"),)),
+        ("spot", "own", (by("m"), by("n", 1, 1))),
+        ("out", "told", (by("m"),)),
+    ),
+    (
+        (
+            (("i", by("m")), ("j", by("n"))),
+            (
+                put("spot", (("i", 0), ("j", 1)), ("add", at("raw", ("i", 0), ("j", 0)), at("raw", ("i", 2), ("j", 0)))),
+                add("row", (("i", 0),), ("mul", at("spot", ("i", 0), ("j", 1)), at("spot", ("i", 0), ("j", 1)))),
+            ),
+        ),
+        (
+            (("i", by("m")),),
+            (put("out", (("i", 0),), ("sub", at("row", ("i", 0)), at("out", ("i", 0)))),),
+        ),
+        (
+            (("i", by("m")), ("j", by("n"))),
+            (add("out", (("i", 0),), ("min", at("raw", ("i", 1), ("j", 0)), at("row", ("i", 0)))),),
+        ),
+    ),
+)
+MORE_PROGRAMS = PROGRAMS + [DEEP, DENSE, TWICE, ROWS]

@@ -27,11 +27,28 @@ FUNCTIONS = {
         "check_ring(program, one, other, pattern, paper)", "binds_apart(program, one, other)", "meeting_apart(program, one, other)",
         "meets_at(program, one, other, sizes, x, y)", "ring_of(rows)", "need_ring(rows, paper)",
     ],
+    "loose": [
+        "is_free(program, nest, loop)", "free_loops(program, nest)", "free_paper(program, nest, loop)", "held_back(program, nest, loop)",
+        "check_free(program, nest, loop, paper)", "ties(program, nest)",
+    ],
+    "turns": [
+        "need_turn(program, turn)", "turned(program, turn)", "cases(program, turn)", "case_binds(program, turn, number)",
+        "reversed_by(program, turn)", "is_safe(program, turn)", "safely(program, turn)", "turn_paper(program, turn)",
+        "check_turn(program, turn, paper)",
+    ],
+    "ledger": ["check_ledger(program, ledger)", "all_safe(program, nest)"],
+    "plans": [
+        "need_plan(program, nest, plan)", "groups_of(program, nest, plan, sizes)", "window(program, nest, plan, sizes, group, array)",
+        "moved(program, nest, plan, sizes)", "moved_parts(program, nest, plan, sizes)", "near_words(program, nest, plan, sizes)",
+        "is_fit(program, nest, plan, sizes)", "may_be(program, nest, loop, array)", "plain_plans(program)",
+    ],
 }
 CLASSES = {
     ("walk", "Walk"): ["__init__(self, program, sizes, given)", "step(self, many=1)", "back(self, many=1)", "at(self)", "is_over(self)",
                        "cell(self, array, cell)", "stand(self)", "walk_twin(self)", "__eq__(self, other)", "__len__(self)",
                        "__repr__(self)"],
+    ("ledger", "Turning"): ["__init__(self, program)", "now(self)", "do(self, turn)", "back(self)", "ahead(self)", "ledger(self)",
+                            "tried(self)", "turning_twin(self)", "__eq__(self, other)", "__len__(self)", "__repr__(self)"],
 }
 
 

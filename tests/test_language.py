@@ -25,7 +25,7 @@ BARRED_WORDS = set(
     "TYPE_CHECKING abstractmethod".split())
 STATEMENTS = (
     ast.Assign, ast.AugAssign, ast.If, ast.While, ast.For, ast.Return, ast.Break, ast.Continue, ast.Pass, ast.Raise, ast.Assert, ast.Delete,
-    ast.Expr, ast.FunctionDef,
+    ast.Expr, ast.FunctionDef, ast.Try,
 )
 DOUBLE = {"__init__", "__eq__", "__repr__", "__str__", "__len__"}
 
@@ -170,6 +170,17 @@ class Files(unittest.TestCase):
                         self.assertIsInstance(part, (ast.FunctionDef, ast.Expr))
                         if isinstance(part, ast.FunctionDef) and part.name.startswith("__"):
                             self.assertIn(part.name, DOUBLE)
+
+    def test_own_errors_alone_are_caught(self):
+        own = {node.name for node in tree_of(PACKAGE / "errors.py").body if isinstance(node, ast.ClassDef)}
+        for _, _, tree in self.each():
+            for node in ast.walk(tree):
+                if isinstance(node, ast.Try):
+                    self.assertEqual((node.orelse, node.finalbody), ([], []))
+                    for handler in node.handlers:
+                        names = handler.type.elts if isinstance(handler.type, ast.Tuple) else [handler.type]
+                        self.assertLessEqual({name.id for name in names}, own)
+                        self.assertIsNone(handler.name)
 
     def test_calls(self):
         for _, _, tree in self.each():

@@ -10,88 +10,11 @@ from lanewright.meetings import (
 )
 from lanewright.programs import accesses_of
 from tests.helper import (
-    CROSS, LINE, ODD_THINGS, PRODUCT, PROGRAMS, SIGNS, Kept, Touchy, all_sizes, at, by, chance_program, count_of, deep_list, fixed, num,
-    put, refused, with_part,
+    CROSS, LINE, ODD_NUMBERS, ODD_THINGS, PRODUCT, PROGRAMS, SIGNS, Kept, Touchy, access_at, all_sizes, at, by, chance_program, deep_list,
+    fits, is_ring, loops_at, put, refused, rounds_by_cell, sides_of, slow_binds, slow_meeting, with_part,
 )
 
-X0, X1, X2, Y0, Y1, Y2 = ("x", 0), ("x", 1), ("x", 2), ("y", 0), ("y", 1), ("y", 2)
-ODD_NUMBERS = [None, True, False, -1, 99, "0", b"0", (0,), [0], {}, 10 ** 3999, object(), int]
-
-
-def sides_of(program, nests=None):
-    return [(nest, number) for nest in (range(len(program[2])) if nests is None else nests)
-            for number in range(len(accesses_of(program, nest)))]
-
-
-def access_at(program, side):
-    return accesses_of(program, side[0])[side[1]][1]
-
-
-def loops_at(program, side):
-    return program[2][side[0]][0]
-
-
-def rounds_by_cell(program, side, sizes):
-    """All ROUNDS, rising, of each CELL to which an ACCESS comes."""
-    named = dict(zip(program[0], sizes))
-    loops = loops_at(program, side)
-    indexes = access_at(program, side)[2]
-    found = {}
-    for spots in itertools.product(*[range(count_of(count, named)) for _, count in loops]):
-        where = dict(zip([name for name, _ in loops], spots))
-        cell = tuple(where.get(loop, 0) + more for loop, more in indexes)
-        found.setdefault(cell, []).append(spots)
-    return found
-
-
-def fits(pattern, x, y):
-    looks = {"<": lambda a, b: a < b, "=": lambda a, b: a == b, ">": lambda a, b: a > b, "*": lambda a, b: True}
-    return all(looks[sign](a, b) for sign, a, b in zip(pattern, x, y))
-
-
-def slow_meeting(program, one, other, pattern):
-    """The MEETING with the least X, then Y, found by looking at all ROUNDS of the greatest sizes."""
-    if access_at(program, one)[1] != access_at(program, other)[1]:
-        return None
-    sizes = (12,) * len(program[0])
-    there = rounds_by_cell(program, other, sizes)
-    pairs = ((x, y) for cell, xs in rounds_by_cell(program, one, sizes).items() for x in xs for y in there.get(cell, ()))
-    best = min((pair for pair in pairs if fits(pattern, *pair)), default=None)
-    return None if best is None else (sizes, *best)
-
-
-def slow_binds(program, one, other, pattern):
-    """BINDS as the document tells them, in three parts."""
-    loops, there = loops_at(program, one), loops_at(program, other)
-    rows = []
-    for k in range(max(len(loops), len(there))):
-        for letter, some in (("x", loops), ("y", there)):
-            if k < len(some):
-                most = some[k][1][0] + 12 * sum(times for _, times in some[k][1][1])
-                rows += [(0, (letter, k), 0), ((letter, k), 0, most - 1)]
-    named = [name for name, _ in loops], [name for name, _ in there]
-    for (loop, more), (loop_there, more_there) in zip(access_at(program, one)[2], access_at(program, other)[2]):
-        u = ("x", named[0].index(loop)) if loop else 0
-        v = ("y", named[1].index(loop_there)) if loop_there else 0
-        rows += [(u, v, more_there - more), (v, u, more - more_there)]
-    for k, sign in enumerate(pattern):
-        rows += {"<": [(("x", k), ("y", k), -1)], ">": [(("y", k), ("x", k), -1)], "*": [],
-                 "=": [(("x", k), ("y", k), 0), (("y", k), ("x", k), 0)]}[sign]
-    return rows
-
-
-def is_ring(rows, paper):
-    """None, or what BadPaper tells, by the words of the document."""
-    if not isinstance(paper, tuple) or any(type(number) is not int for number in paper):
-        return (None,)
-    if rows and (not paper or min(paper) != paper[0] or len(set(paper)) < len(paper) or paper[0] < 0 or max(paper) >= len(rows)):
-        return (None,)
-    if not rows:
-        return None if paper == () else (None,)
-    for k, number in enumerate(paper):
-        if rows[number][1] != rows[(paper[1:] + paper[:1])[k]][0]:
-            return (k,)
-    return None if sum(rows[number][2] for number in paper) < 0 else ("sum",)
+X0, X1, Y0, Y1 = ("x", 0), ("x", 1), ("y", 0), ("y", 1)
 
 
 def some_pairs(program, most):
