@@ -229,7 +229,12 @@ def need_spots(loops, spots):
 def need_sizes(program, sizes):
     """None; refuses of anything what can't stand for the SIZES of a PROGRAM."""
     need_program(program)
-    if not is_row(sizes, len(program[0]), len(program[0])):
+    need_sizes_by(program[0], sizes)
+
+
+def need_sizes_by(names, sizes):
+    """None; refuses of anything what can't stand for SIZES of these NAMES."""
+    if not is_row(sizes, len(names), len(names)):
         raise BadSizes(None)
     for number, size in enumerate(sizes):
         if not is_whole(size, least=1, most=MOST_SIZE):

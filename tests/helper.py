@@ -451,3 +451,69 @@ ROWS = (
     ),
 )
 MORE_PROGRAMS = PROGRAMS + [DEEP, DENSE, TWICE, ROWS]
+
+
+# SIZES and ARRAYS for KERNELS.
+HEAD = (
+    ("m", "n"),
+    (
+        ("gift", "given", (by("m", 1, 2),)),
+        ("told", "told", (by("m"), by("n", 1, 1))),
+        ("mine", "own", (fixed(4),)),
+    ),
+)
+NEARS = (("desk", (fixed(3),)), ("gifts", (by("n"), fixed(2))))
+
+
+def kernel(*rows, lanes=2, count=fixed(3), nears=NEARS):
+    return (lanes, count, nears, rows)
+
+
+def chance_kernel(seed):
+    """A KERNEL by chance for HEAD, whose loops are short."""
+    chance = random.Random(seed)
+    count = chance.choice([fixed(0), fixed(1), by("m"), by("n", 2, -1), fixed(5)])
+    rows = chance_rows(chance, chance.randint(1, 5), 0)
+    if seed % 5 == 0:
+        # The first lane of a group waits elsewhere than the others.
+        rows += (("if", ("lane",), (("fence",),)), ("fence",))
+    return (chance.randint(1, 4), count, NEARS, rows)
+
+
+def chance_rows(chance, many, deep):
+    return tuple(chance_row(chance, deep) for _ in range(many))
+
+
+def chance_row(chance, deep):
+    word = chance.choice(["set", "set", "do", "do", "load", "load", "store", "store", "loop", "if", "fence"])
+    reg = chance.randrange(4)
+    if word in ("loop", "if") and deep == 3:
+        word = "set"
+    if word == "set":
+        return ("set", reg, chance_operand(chance))
+    if word == "do":
+        return ("do", chance.choice("add sub mul min max less div rest".split()), reg, chance_operand(chance), chance_operand(chance))
+    if word in ("load", "store"):
+        return chance_move(chance, word, reg)
+    if word == "loop":
+        first, last = ("num", chance.randrange(3)), chance.choice([("num", chance.randrange(4)), ("size", "m"), ("lane",)])
+        return ("loop", reg, first, last, chance_rows(chance, chance.randint(0, 3), deep + 1))
+    if word == "if" and chance.randrange(3) == 0:
+        return ("if", ("lane",), (*chance_rows(chance, chance.randint(0, 2), deep + 1), ("fence",)))
+    if word == "if":
+        return ("if", chance_operand(chance), chance_rows(chance, chance.randint(0, 3), deep + 1))
+    return ("fence",)
+
+
+def chance_move(chance, word, reg):
+    name, sides = chance.choice([("gift", 1), ("told", 2), ("mine", 1), ("desk", 1), ("gifts", 2)])
+    cells = tuple(chance.choice([("num", chance.randrange(2)), ("num", 0), ("lane",), ("group",), ("reg", chance.randrange(4))])
+                  for _ in range(sides))
+    row = ("load", reg, name, cells) if word == "load" else ("store", name, cells, chance_operand(chance))
+    return row + chance.choice([(), (), ((chance.randrange(5), chance.choice([None, 0, 3])),)])
+
+
+def chance_operand(chance):
+    return chance.choice([
+        ("num", chance.choice([0, 1, 2, 65535, chance.randrange(65536)])), ("reg", chance.randrange(4)), ("reg", chance.randrange(4)),
+        ("lane",), ("group",), ("size", chance.choice("mn"))])

@@ -42,6 +42,13 @@ FUNCTIONS = {
         "moved(program, nest, plan, sizes)", "moved_parts(program, nest, plan, sizes)", "near_words(program, nest, plan, sizes)",
         "is_fit(program, nest, plan, sizes)", "may_be(program, nest, loop, array)", "plain_plans(program)",
     ],
+    "leastplan": [
+        "least_plan(program, nest, sizes)", "all_plans(program, nest, loop, lanes, sizes)", "shelf(program, nest, loop, lanes, sizes)",
+        "table(program, nest, loop, lanes, sizes)", "least_paper(program, nest, sizes)", "check_least(program, nest, sizes, paper)",
+    ],
+    "kernels": ["need_kernel(sizes, arrays, kernel)", "rows_by_path(kernel)", "row_at(kernel, path)"],
+    "lanes": ["run_lanes(sizes, arrays, kernel, at, stand, *, schedule=(), most=2000000)"],
+    "clean": ["clash_of(kernel, events)"],
 }
 CLASSES = {
     ("walk", "Walk"): ["__init__(self, program, sizes, given)", "step(self, many=1)", "back(self, many=1)", "at(self)", "is_over(self)",
@@ -49,6 +56,11 @@ CLASSES = {
                        "__repr__(self)"],
     ("ledger", "Turning"): ["__init__(self, program)", "now(self)", "do(self, turn)", "back(self)", "ahead(self)", "ledger(self)",
                             "tried(self)", "turning_twin(self)", "__eq__(self, other)", "__len__(self)", "__repr__(self)"],
+    ("lanes", "Lanes"): ["__init__(self, sizes, arrays, kernel, at, stand, *, most=2000000)", "turn(self, group, lane)",
+                         "run(self, schedule=())", "has_turn(self, group, lane)", "path_of(self, group, lane)",
+                         "registers(self, group, lane)", "interval(self, group, lane)", "lanes_there(self)", "is_over(self)", "end(self)",
+                         "far(self)", "near(self, group)", "events(self)", "turns(self)", "clash(self)", "lanes_twin(self)",
+                         "__eq__(self, other)", "__len__(self)", "__repr__(self)"],
 }
 
 
