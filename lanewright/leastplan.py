@@ -5,7 +5,7 @@ from lanewright.loose import free_loops
 from lanewright.parts import is_row, is_same, sizes_by_name
 from lanewright.plans import (
     MOST_LANES, NEAR_MOST, PLAN_USES, accesses_by_array, array_moves, array_uses, is_fit, is_lanes, moved, need_free,
-    parts_by_plan, window_sizes,
+    window_sizes,
 )
 from lanewright.programs import need_nest, need_program, need_sizes
 
@@ -154,7 +154,7 @@ def is_fit_plan(program, nest, thing, sizes):
 
 
 def least_words(program, nest, sizes, tables):
-    """How many words a FIT PLAN must move at least, by the TABLES of a nest."""
-    parts = parts_by_plan(program, nest, (tables[0][0], 1, (), (), ()), sizes)
-    plain = sum([loads + stores for loads, stores in parts.values()])
+    """How many words a FIT PLAN must move at least, by the TABLES of a nest, at least one."""
+    # With nothing near, held or local it is the same whatever the loop and the lanes are.
+    plain = moved(program, nest, (tables[0][0], tables[0][1], (), (), ()), sizes)
     return plain - max([rows[-1][-1] for _, _, rows in tables])

@@ -2,7 +2,7 @@
 
 from lanewright.counts import count_at, counts_at
 from lanewright.errors import BadNumber, BadPlan, NoSuch, Unfit
-from lanewright.loose import free_loops, is_free, need_loop
+from lanewright.loose import free_loops, is_free
 from lanewright.parts import (
     arrays_by_name, is_one_of, is_row, loop_counts, multiplied, nest_accesses, sizes_by_name,
 )
@@ -54,7 +54,6 @@ def is_rising_row(thing, names):
 
 def need_free(program, nest, loop):
     """None; refuses of anything what is no number of a FREE loop of a nest."""
-    need_loop(program, nest, loop)
     if not is_free(program, nest, loop):
         raise BadNumber(loop)
 

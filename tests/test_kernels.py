@@ -92,6 +92,7 @@ class Forms(Case):
                 (("desk", fixed(3)),), (("desk", [fixed(3)]),), (("desk", ()),), (("desk", (fixed(1),) * 3),), (("desk", (fixed(0),)),),
                 (("desk", (by("m", 1, -1),)),), (("desk", (by("k"),)),), (("Desk", (fixed(1),)),), (("desks" * 2, (fixed(1),)),),
                 tuple((name, (fixed(1),)) for name in "abcdefg"), (one, None), (Touchy(), one), ((Touchy(), (fixed(1),)),), (("desk", Touchy()),),
+                (("desk", (fixed(3),), 0),), (("desk", (fixed(3),), ()),),
                 (one, ("big", ((4, (("m", 2), ("n", 3))), (5, (("m", 2), ("n", 3)))))),
                 (list(one),)]:
             if isinstance(nears, tuple) and len(nears) == 0:
@@ -128,11 +129,13 @@ class Rows(Case):
     NO_OPERANDS = ODD_THINGS + [
         0, 5, "lane", ("num",), ("num", 65536), ("num", -1), ("num", True), ("num", 1, 1), ["num", 1], ("reg",), ("reg", 32), ("reg", -1),
         ("reg", None), ("lane", 0), ("lanes",), ("group", 0), ("size",), ("size", "k"), ("size", 0), ("size", "desk"), ("at", 0), ("loop", "i"),
-        (("lane",),), ("", 0), (Touchy(), 0), ("num", Touchy()), ("reg", Touchy()), ("size", Touchy()), (b"lane",), ("lane", "group")]
+        (("lane",),), ("", 0), (Touchy(), 0), ("num", Touchy()), ("reg", Touchy()), ("size", Touchy()), (b"lane",), ("lane", "group"),
+        ("lane", "m"), ("group", "m"), ("sizes", "m"), ("", "m"), ("num", "m"), ("reg", "m"), (Touchy(), "m")]
     OPERANDS = [("num", 0), ("num", 65535), ("reg", 0), ("reg", 31), ("lane",), ("group",), ("size", "m"), ("size", "n")]
 
     def test_no_rows_at_all(self):
-        for row in ODD_THINGS + [("sets", 0, num(1)), (b"set", 0, num(1)), (("set",), 0), ("", 0), ("num", 1), ("put", "a", ()), "fence", ["fence"]]:
+        words = "set do load store loop if".split()
+        for row in ODD_THINGS + [(word,) for word in words] + [(word, 0) for word in words] + [(word,) + (0,) * 5 for word in words] + [("sets", 0, num(1)), (b"set", 0, num(1)), (("set",), 0), ("", 0), ("num", 1), ("put", "a", ()), "fence", ["fence"]]:
             self.bad((0,), kernel(row))
             self.bad((1, 2), kernel(SET, loop(SET, SET, row)))
 

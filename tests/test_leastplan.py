@@ -219,6 +219,13 @@ class Papers(unittest.TestCase):
                 seen.add(words == least)
         self.assertEqual(len(seen), 2)
 
+    def test_where_the_least_one_takes_all_room(self):
+        plan, tables = least_paper(CHOICE, 0, (12,))
+        self.assertEqual((plan, near_words(CHOICE, 0, plan, (12,))), ((0, 6, ("aa", "bb", "cc"), ("out",), ()), 64))
+        for worse in [(0, 6, ("bb", "cc"), ("out",), ()), (0, 8, ("aa", "bb"), ("out",), ()), (0, 8, ("aa", "bb", "cc"), (), ()),
+                      (0, 5, ("aa", "bb", "cc"), ("out",), ())]:
+            refused(self, BadPaper, "about", "least", check_least, CHOICE, 0, (12,), (worse, tables))
+
     def test_none_of_no_pair(self):
         plan, tables = least_paper(PRODUCT, 0, (3, 3, 3))
         for paper in ODD_THINGS + [

@@ -165,6 +165,15 @@ class Twins(unittest.TestCase):
         turning.back()
         self.assertEqual((twin.now(), len(twin)), (turned(ROWS, ("split", 0, 1)), 3))
 
+    def test_a_twin_of_what_nothing_was_done_to(self):
+        turning = Turning(LINE)
+        twin = turning.turning_twin()
+        self.assertEqual((twin, twin.now(), len(twin)), (turning, LINE, 0))
+        twin.do(FUSE)
+        self.assertEqual((turning.now(), len(turning)), (LINE, 0))
+        twin.back()
+        self.assertEqual(twin.turning_twin().ahead(), FUSE)
+
     def test_what_was_told_stays_as_it_was(self):
         turning = Turning(LINE)
         turning.do(FUSE)

@@ -245,6 +245,17 @@ class Uses(unittest.TestCase):
         never = with_part(program, (2, 0), ((("i", by("m")), ("j", fixed(0))), (put("a", (("", 0),), num(1)),)))
         self.assertEqual((free_loops(never, 0), may_be(never, 0, 0, "a")), ([0, 1], []))
 
+    def test_local_cells_have_like_indexes(self):
+        program = (("m",), (("a", "own", (by("m", 1, 1),)), ("b", "told", (by("m"),))), ((
+            (("i", by("m")), ("j", fixed(0))), (put("a", (("i", 0),), num(1)), put("b", (("i", 0),), at("a", ("i", 0)))),),))
+        self.assertEqual(may_be(program, 0, 0, "a"), ["held", "local"])
+        for index in [("i", 1), ("", 0), ("j", 0)]:
+            self.assertEqual(may_be(with_part(program, (2, 0, 1, 1, 3, 2, 0), index), 0, 0, "a"), [])
+        first = with_part(program, (2, 0, 1), (put("b", (("i", 0),), at("a", ("i", 0))), put("a", (("i", 0),), num(1))))
+        self.assertEqual(may_be(first, 0, 0, "a"), ["held"])
+        self.assertEqual(may_be(with_part(program, (2, 0, 1, 0, 0), "add"), 0, 0, "a"), ["held"])
+        self.assertEqual(may_be(with_part(program, (2, 0, 1, 0, 3), at("a", ("i", 0))), 0, 0, "a"), ["held"])
+
     def test_local_cells_by_no_loop(self):
         program = (("m",), (("a", "own", (fixed(3),)),), (((("i", fixed(1)),), (put("a", (("", 2),), num(1)),)),))
         self.assertEqual(may_be(program, 0, 0, "a"), ["local"])
