@@ -30,6 +30,11 @@ def is_cell(thing, dims):
     return all([is_whole(spot, most=dim - 1) for spot, dim in zip(thing, dims)])
 
 
+def are_alike(things):
+    """Whether all of a list are equal."""
+    return all([thing == things[0] for thing in things])
+
+
 def multiplied(numbers):
     """All of some numbers multiplied; 1 of none."""
     found = 1

@@ -4,7 +4,7 @@ from lanewright.counts import count_at, counts_at
 from lanewright.errors import BadNumber, BadPlan, NoSuch, Unfit
 from lanewright.loose import free_loops, is_free
 from lanewright.parts import (
-    arrays_by_name, is_one_of, is_row, loop_counts, multiplied, nest_accesses, sizes_by_name,
+    are_alike, arrays_by_name, is_one_of, is_row, loop_counts, multiplied, nest_accesses, sizes_by_name,
 )
 from lanewright.programs import need_nest, need_program, need_sizes
 from lanewright.words import is_whole
@@ -75,11 +75,6 @@ def array_uses(program, nest, loop):
                ("near", may_be_near(by_array[array]))]
         found[array] = [use for use, good in may if good]
     return found
-
-
-def are_alike(things):
-    """Whether all of a list are equal."""
-    return all([thing == things[0] for thing in things])
 
 
 def may_be_held(accesses, name):

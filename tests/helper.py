@@ -465,6 +465,19 @@ HEAD = (
 NEARS = (("desk", (fixed(3),)), ("gifts", (by("n"), fixed(2))))
 
 
+def stand_for(at, seed=0):
+    """A STAND of the ARRAYS of HEAD."""
+    chance = random.Random(seed)
+    named = dict(zip(HEAD[0], at))
+    rows = []
+    for name, _, dims in HEAD[1]:
+        many = 1
+        for dim in dims:
+            many *= count_of(dim, named)
+        rows.append((name, tuple(chance.choice([0, 1, 2, 65535, chance.randrange(65536)]) for _ in range(many))))
+    return tuple(rows)
+
+
 def kernel(*rows, lanes=2, count=fixed(3), nears=NEARS):
     return (lanes, count, nears, rows)
 

@@ -48,7 +48,16 @@ FUNCTIONS = {
     ],
     "kernels": ["need_kernel(sizes, arrays, kernel)", "rows_by_path(kernel)", "row_at(kernel, path)"],
     "lanes": ["run_lanes(sizes, arrays, kernel, at, stand, *, schedule=(), most=2000000)"],
-    "clean": ["clash_of(kernel, events)"],
+    "clean": [
+        "clash_of(kernel, events)", "is_clean(kernel, events)", "clean_paper(kernel, events)", "check_clean(kernel, events, paper)",
+        "words_moved(kernel, events)", "one_order(events, others)",
+    ],
+    "compiled": ["kernel_of(program, nest, plan)", "kernels_of(program, plans)"],
+    "steady": ["like_paper(sizes, arrays, kernel)", "check_like(sizes, arrays, kernel, paper)", "is_steady(sizes, arrays, kernel)"],
+    "led": [
+        "run_led(program, plans, sizes, given, *, schedules=())", "words_led(program, plans, sizes, given)",
+        "tried(program, plans, kernels, sizes, given)", "first_event(program, plans, kernels, sizes, given)",
+    ],
 }
 CLASSES = {
     ("walk", "Walk"): ["__init__(self, program, sizes, given)", "step(self, many=1)", "back(self, many=1)", "at(self)", "is_over(self)",
@@ -61,6 +70,8 @@ CLASSES = {
                          "registers(self, group, lane)", "interval(self, group, lane)", "lanes_there(self)", "is_over(self)", "end(self)",
                          "far(self)", "near(self, group)", "events(self)", "turns(self)", "clash(self)", "lanes_twin(self)",
                          "__eq__(self, other)", "__len__(self)", "__repr__(self)"],
+    ("led", "Line"): ["__init__(self, program, plans, sizes, given)", "step(self, schedule=())", "back(self)", "at(self)", "stand(self)",
+                      "result(self)", "line_twin(self)", "__eq__(self, other)", "__len__(self)", "__repr__(self)"],
 }
 
 

@@ -8,7 +8,8 @@ from lanewright import lanes as lanes_file
 from lanewright.errors import BadGiven, BadKernel, BadNumber, BadProgram, BadSchedule, BadSizes, Gone, NoSuch
 from lanewright.lanes import Lanes, run_lanes
 from tests.helper import (
-    HEAD, NEARS, ODD_NUMBERS, ODD_THINGS, Kept, Touchy, by, chance_kernel, count_of, deep_list, fixed, kernel, num, refused, with_part,
+    HEAD, NEARS, ODD_NUMBERS, ODD_THINGS, Kept, Touchy, by, chance_kernel, count_of, deep_list, fixed, kernel, num, refused, stand_for,
+    with_part,
 )
 from tests.test_clean import slow_clash_of
 
@@ -18,19 +19,6 @@ FENCE = ("fence",)
 
 def reg(number):
     return ("reg", number)
-
-
-def stand_for(at, seed=0):
-    """A STAND of the ARRAYS of HEAD."""
-    chance = random.Random(seed)
-    named = dict(zip(HEAD[0], at))
-    rows = []
-    for name, _, dims in HEAD[1]:
-        many = 1
-        for dim in dims:
-            many *= count_of(dim, named)
-        rows.append((name, tuple(chance.choice([0, 1, 2, 65535, chance.randrange(65536)]) for _ in range(many))))
-    return tuple(rows)
 
 
 STAND = stand_for(AT)
