@@ -58,6 +58,9 @@ FUNCTIONS = {
         "run_led(program, plans, sizes, given, *, schedules=())", "words_led(program, plans, sizes, given)",
         "tried(program, plans, kernels, sizes, given)", "first_event(program, plans, kernels, sizes, given)",
     ],
+    "proseout": ["program_text(program)", "count_text(count)", "turn_text(turn)", "plan_text(program, nest, plan)", "kernel_text(kernel)"],
+    "prosein": ["program_in(text)", "count_in(text)", "turn_in(text)", "plan_in(program, nest, text)", "kernel_in(text)"],
+    "desk": ["all_said(lines)"],
 }
 CLASSES = {
     ("walk", "Walk"): ["__init__(self, program, sizes, given)", "step(self, many=1)", "back(self, many=1)", "at(self)", "is_over(self)",
@@ -72,6 +75,10 @@ CLASSES = {
                          "__eq__(self, other)", "__len__(self)", "__repr__(self)"],
     ("led", "Line"): ["__init__(self, program, plans, sizes, given)", "step(self, schedule=())", "back(self)", "at(self)", "stand(self)",
                       "result(self)", "line_twin(self)", "__eq__(self, other)", "__len__(self)", "__repr__(self)"],
+    ("work", "Work"): ["__init__(self, program, *, sizes=None, given=None)", "do(self, edit)", "undo(self)", "redo(self)", "program(self)",
+                       "plans(self)", "sizes(self)", "given(self)", "result(self)", "moved(self)", "kernels(self)", "ledger(self)",
+                       "edits(self)", "log(self)", "work_twin(self)", "__eq__(self, other)", "__len__(self)", "__repr__(self)"],
+    ("desk", "Desk"): ["__init__(self)", "said(self, line)", "works(self)", "work_of(self, name)", "__len__(self)", "__repr__(self)"],
 }
 
 

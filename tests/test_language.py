@@ -47,6 +47,8 @@ def bound_names(tree):
             yield node.arg, node
         elif isinstance(node, ast.Name) and isinstance(node.ctx, ast.Store):
             yield node.id, node
+        elif isinstance(node, ast.ExceptHandler) and node.name is not None:
+            yield node.name, node
 
 
 def inner_names(function):
@@ -180,7 +182,14 @@ class Files(unittest.TestCase):
                     for handler in node.handlers:
                         names = handler.type.elts if isinstance(handler.type, ast.Tuple) else [handler.type]
                         self.assertLessEqual({name.id for name in names}, own)
-                        self.assertIsNone(handler.name)
+
+    def test_names_of_errors_stand_alone(self):
+        for _, _, tree in self.each():
+            for function in ast.walk(tree):
+                if isinstance(function, ast.FunctionDef):
+                    caught = [node.name for node in ast.walk(function) if isinstance(node, ast.ExceptHandler) and node.name is not None]
+                    self.assertEqual(len(caught), len(set(caught)))
+                    self.assertEqual(set(caught) & (set(inner_names(function)) | BUILTINS | BARRED_NAMES), set())
 
     def test_calls(self):
         for _, _, tree in self.each():
