@@ -83,7 +83,7 @@ def clean_paper(kernel, events):
 def rows_of_place(place, events):
     """A list of the rows of a paper for one place, to which these EVENTS come."""
     name, group, cell = place
-    if are_alike([event[0] for event in events]) or "store" not in [event[3] for event in events]:
+    if are_alike([one[0] for one in events]) or "store" not in [one[3] for one in events]:
         return [(name, group, None, cell, who_comes(events))]
     by_interval = {}
     for event in events:

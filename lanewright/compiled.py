@@ -200,7 +200,7 @@ def bring_rows(draft, array, sides):
         if loop == draft.dealt:
             rows.append(do("add", spot, reg(spot), draft.base))
         rows.extend(more_rows(spot, reg(spot), low)[0])
-    spots = tuple([reg(spot) for spot in range(len(sides))])
+    spots = tuple([reg(place) for place in range(len(sides))])
     source = draft.source(None)
     return rows + [("load", LESS, array, spots, source)] + place_rows(reg(NUMBER)) + [
         ("store", draft.nearby[array], (reg(SPOT), reg(SPOT_BEYOND)), reg(LESS), source),
@@ -218,11 +218,12 @@ def lane_rows(draft):
     for array in uses:
         if uses[array] != "near":
             draft.cells[array] = draft.fresh()
-    registers = {name: draft.fresh() for name in draft.others}
+    registers = {}
     for name in draft.others:
+        registers[name] = draft.fresh()
         draft.where[name] = reg(registers[name])
         draft.within[name] = reg(registers[name])
-    rows = [row for number, step in enumerate(draft.steps) for row in step_rows(draft, number, step)]
+    rows = [row for place, step in enumerate(draft.steps) for row in step_rows(draft, place, step)]
     for name in reversed(draft.others):
         rows = [("loop", registers[name], num(0), draft.counts[name], tuple(rows))]
     for array in draft.plan[3]:

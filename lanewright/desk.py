@@ -51,10 +51,10 @@ def is_line(words):
     rest = words[2:]
     if not least <= len(rest) <= most or not all([is_figures(word) for word in rest[:numbers]]):
         return False
-    return words[0] != "turn" or is_turn_text(spaced(rest))
+    return words[0] != "turn" or is_turn_text(listed(rest))
 
 
-def spaced(words):
+def listed(words):
     """Words with one blank between, "none" where there are none."""
     return " ".join(words) if len(words) > 0 else "none"
 
@@ -69,14 +69,14 @@ def rows_of(text):
     return parted(text.split("\n"))
 
 
-def numbers_shown(numbers):
+def numbers_told(numbers):
     """Numbers with one blank between."""
-    return spaced([str(number) for number in numbers])
+    return listed([str(number) for number in numbers])
 
 
-def result_shown(result):
+def result_told(result):
     """How a RESULT is told."""
-    return parted([f"{name} {numbers_shown(words)}" for name, words in result])
+    return parted([f"{name} {numbers_told(words)}" for name, words in result])
 
 
 def counted_given(program, sizes):
@@ -109,10 +109,10 @@ def do_words(work, words):
         need_sizes(work.program(), sizes)
         work.do(("sizes", sizes, counted_given(work.program(), sizes)))
     elif word == "turn":
-        work.do(("turn", turn_in(spaced(rest))))
+        work.do(("turn", turn_in(listed(rest))))
     elif word == "plan":
         nest = int(rest[0])
-        work.do(("plan", nest, plan_in(work.program(), nest, spaced(["plan", *rest[1:]]))))
+        work.do(("plan", nest, plan_in(work.program(), nest, listed(["plan", *rest[1:]]))))
     elif word == "least":
         work.do(("least", int(rest[0])))
     elif word == "undo":
@@ -135,7 +135,8 @@ def done(work, words):
         return "bad sizes"
     except Unsafe as met:
         one, other, _ = met.meeting
-        return f"unsafe {numbers_shown([*one, *other])}"
+        shown = numbers_told([*one, *other])
+        return f"unsafe {shown}"
     except Unfit as lack:
         return f"unfit {lack.about}"
     except Gone:
@@ -149,11 +150,11 @@ def asked(work, words):
     if word in ("free", "kernel"):
         return asked_of_nest(work, word, int(words[2]))
     if word == "walk":
-        return result_shown(plain_run(program, work.sizes(), work.given()))
+        return result_told(plain_run(program, work.sizes(), work.given()))
     if word == "lanes":
-        return result_shown(work.result())
+        return result_told(work.result())
     if word == "moved":
-        return numbers_shown(work.moved())
+        return numbers_told(work.moved())
     if word == "text":
         return rows_of(program_text(program))
     if word == "plans":
@@ -171,7 +172,7 @@ def asked_of_nest(work, word, nest):
     if word == "kernel":
         return rows_of(kernel_text(kernel_of(program, nest, work.plans()[nest])))
     loops = program[2][nest][0]
-    return spaced([loops[loop][0] for loop in free_loops(program, nest)])
+    return listed([loops[loop][0] for loop in free_loops(program, nest)])
 
 
 class Desk:
@@ -204,7 +205,7 @@ class Desk:
         if end != "":
             return BAD_LINE
         if words == ["names"]:
-            return spaced(self.works())
+            return listed(self.works())
         if not is_line(words):
             return BAD_LINE
         if words[1] not in self._works:

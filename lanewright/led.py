@@ -100,9 +100,9 @@ class Trial:
             due = self._trail.words[name]
             for cell, worth in zip(due, words):
                 if worth != due[cell]:
-                    event = last_of([event for event in events if event[3:6] == ("store", name, cell)])
-                    row = last_of([row for row in self._rows if row[3:5] == (name, cell)])
-                    return name, cell, due[cell], worth, event, row
+                    stores = [event for event in events if event[3:6] == ("store", name, cell)]
+                    rows = [row for row in self._rows if row[3:5] == (name, cell)]
+                    return name, cell, due[cell], worth, last_of(stores), last_of(rows)
         return None
 
     def first_wrong(self, events, local):

@@ -23,7 +23,7 @@ class Looker:
         """Whether all operands of a row are LIKE."""
         return all([is_like(operand, self.have[path]) for operand in operands_of(self.rows[path])])
 
-    def behind(self, path):
+    def like_behind(self, path):
         """The registers that are LIKE behind a row."""
         row, ahead = self.rows[path], self.have[path]
         if row[0] in ("set", "do") and self.has_like(path):
@@ -32,20 +32,20 @@ class Looker:
             return ahead & ~self.changes[path]
         many = len(rows_in(row))
         if many > 0:
-            ahead = ahead & self.behind((*path, many - 1))
+            ahead = ahead & self.like_behind((*path, many - 1))
         return ahead | bit_of(row[1]) if row[0] == "loop" else ahead
 
     def may_have(self, path):
         """The registers that may be LIKE ahead of a row."""
         above = path[:-1]
         if path[-1] > 0:
-            found = self.behind((*above, path[-1] - 1))
+            found = self.like_behind((*above, path[-1] - 1))
         elif len(above) == 0:
             return ALL_BITS
         elif self.rows[above][0] == "if" and self.has_like(above):
             found = self.have[above]
         else:
-            found = self.behind(above)
+            found = self.like_behind(above)
         for around in self.unlike_around(path):
             found = found & ~self.changes[around]
         return found
@@ -136,7 +136,7 @@ def check_like(sizes, arrays, kernel, paper):
     paths = list(rows_by_path(kernel))
     if not is_paper(paths, paper):
         raise BadPaper(None)
-    looker = Looker(kernel, {path: bits_of(registers) for path, registers in paper})
+    looker = Looker(kernel, {row[0]: bits_of(row[1]) for row in paper})
     for path in paths:
         if looker.have[path] & ~looker.may_have(path) != 0 or not looker.can_stand(path):
             raise BadPaper(path)

@@ -8,7 +8,7 @@ from lanewright.led import need_fit, run_led
 from lanewright.parts import is_one_of, is_row, multiplied, sizes_by_name
 from lanewright.plain import need_given
 from lanewright.plans import is_fit, moved, plain_plans
-from lanewright.programs import need_program, need_sizes
+from lanewright.programs import need_sizes
 from lanewright.turns import safely, turn_paper, turned
 
 MOST_MANY = 8
@@ -21,7 +21,7 @@ class State:
     """How a Work stands; never changed once it is made."""
 
     def __init__(self, program, plans, sizes, given, turns):
-        self.now = program
+        self.program_now = program
         # Of these a tuple: a PLAN for each nest.
         self.planned = plans
         self.sized = sizes
@@ -31,7 +31,7 @@ class State:
 
     def parts(self):
         """That by which two are the same to whoever looks at them."""
-        return self.now, self.planned, self.sized, self.gifts
+        return self.program_now, self.planned, self.sized, self.gifts
 
 
 def given_lengths(program, sizes):
@@ -70,17 +70,17 @@ def edited(state, edit):
         return now
     if word == "plan":
         plan = edit[2]
-        if not is_fit(state.now, edit[1], plan, state.sized):
+        if not is_fit(state.program_now, edit[1], plan, state.sized):
             raise Unfit(edit[1])
     else:
-        plan = least_plan(state.now, edit[1], state.sized)
+        plan = least_plan(state.program_now, edit[1], state.sized)
     plans = (*state.planned[:edit[1]], plan, *state.planned[edit[1] + 1:])
-    return State(state.now, plans, state.sized, state.gifts, state.turns_done)
+    return State(state.program_now, plans, state.sized, state.gifts, state.turns_done)
 
 
 def turned_state(state, turn):
     """The State behind a SAFE TURN."""
-    program = safely(state.now, turn)
+    program = safely(state.program_now, turn)
     plans = plans_behind(state.planned, turn, plain_plans(program))
     return State(program, plans, state.sized, state.gifts, (*state.turns_done, turn))
 
@@ -97,16 +97,15 @@ def plans_behind(plans, turn, plain):
 
 def sized_state(state, sizes, given):
     """The State with other sizes and GIVEN."""
-    need_given(state.now, sizes, given)
-    need_fit(state.now, state.planned, sizes)
-    return State(state.now, state.planned, sizes, given, state.turns_done)
+    need_given(state.program_now, sizes, given)
+    need_fit(state.program_now, state.planned, sizes)
+    return State(state.program_now, state.planned, sizes, given, state.turns_done)
 
 
 class Work:
     """A PROGRAM with the TURNS done to it, PLANS, sizes and GIVEN."""
 
     def __init__(self, program, *, sizes=None, given=None):
-        need_program(program)
         plans = tuple(plain_plans(program))
         if sizes is None:
             sizes = (1,) * len(program[0])
@@ -174,7 +173,7 @@ class Work:
 
     def program(self):
         """The PROGRAM as it stands."""
-        return self._state.now
+        return self._state.program_now
 
     def plans(self):
         """A list of the PLANS of all nests."""

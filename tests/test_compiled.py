@@ -12,7 +12,7 @@ from lanewright.kernels import need_kernel, row_at, rows_by_path
 from lanewright.lanes import Lanes
 from lanewright.loose import free_loops
 from lanewright.plain import reads, stand_behind, tale
-from lanewright.plans import is_fit, moved_parts, plain_plans
+from lanewright.plans import is_fit, moved_parts, near_words, plain_plans
 from lanewright.programs import accesses_of, need_program, rounds_at
 from lanewright.steady import check_like, is_steady, like_paper
 from tests.helper import (
@@ -53,6 +53,8 @@ WIDE = [
     wide((*LONG, ("t", fixed(1))), "i", "j"), wide((("t", fixed(1)), *LONG), "j", "i", "add"), wide(LONG, "i", "i"),
     wide((*LONG, ("t", fixed(0))), "i", "j"), wide((LONG[1], ("t", by("k", 1, -1)), ("i", fixed(3))), "i", "i", "add"),
 ]
+SQUARE = (("n",), (("a", "given", (by("n"), by("n"))), ("b", "told", (by("n"),))), (
+    ((("i", by("n")), ("j", by("n"))), (add("b", (("i", 0),), at("a", ("j", 0), ("i", 0))),)),))
 SUMS = (LINE[0], LINE[1], ((LINE[2][0][0], LINE[2][0][1][:1]),))
 # Loops that never go, by some sizes or by none; lanes of which there are none.
 EMPTY = (
@@ -243,6 +245,32 @@ class Kernels(unittest.TestCase):
         self.assertEqual(told, {
             ("load", "a", (0, None)): 5, ("store", near, (0, None)): 5, ("load", near, (0, 0)): 12, ("load", "s", (0, None)): 3,
             ("store", "s", (0, None)): 3})
+
+    def test_counts_of_all_kinds(self):
+        counts = [fixed(3), by("n"), by("n", 1, 1), by("n", 1, 2), by("n", 1, -1), by("n", 2), by("m", 3, 1), by("m", 3, -3), (0, (("m", 1), ("n", 1))),
+                  (-2, (("m", 1), ("n", 1))), (4, (("m", 1), ("n", 2))), fixed(0)]
+        for number, one in enumerate(counts):
+            other = counts[(number * 3 + 1) % len(counts)]
+            dims = [(max(count[0], 1) if not count[1] else count[0] + 2, count[1]) for count in (one, other)]
+            program = (("m", "n"), (("a", "given", tuple(dims)), ("b", "told", tuple(dims))), ((
+                (("i", one), ("j", other)), (add("b", (("i", 0), ("j", 0)), ("add", at("a", ("i", 0), ("j", 0)), ("loop", "i"))),)),))
+            need_program(program)
+            for loop in (0, 1):
+                for plan in [(loop, 3, (), (), ()), (loop, 2, ("a",), (), ()), (loop, 8, (), (), ())]:
+                    for sizes in [(1, 1), (2, 3), (4, 1)]:
+                        self.runs(program, 0, plan, sizes, number)
+
+    def test_windows_that_just_fit(self):
+        """64 words near, in each way in which there may be so many."""
+        for sizes, plan in [((8,), (0, 8, ("a",), (), ())), ((8,), (0, 8, ("a",), ("b",), ()))]:
+            self.assertEqual(near_words(SQUARE, 0, plan, sizes), 64)
+            self.assertTrue(self.runs(SQUARE, 0, plan, sizes))
+        long = (("n",), (("a", "given", (by("n", 3, 20), fixed(1))), ("b", "told", (by("n", 3, 20),))), ((
+            (("i", by("n", 3)), ("j", by("n", 3, 19))), (add("b", (("i", 0),), ("sub", at("a", ("j", 0), ("", 0)), at("a", ("j", 1), ("", 0)))),)),))
+        need_program(long)
+        for lanes in (1, 3, 8):
+            self.assertEqual(near_words(long, 0, (0, lanes, ("a",), (), ()), (12,)), 56)
+            self.assertTrue(self.runs(long, 0, (0, lanes, ("a",), ("b",), ()), (12,)))
 
     def test_names_that_near_arrays_might_have(self):
         names = ["near" + letter for letter in "abcde"]

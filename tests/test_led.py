@@ -109,6 +109,17 @@ class RunLed(unittest.TestCase):
         plans[0] = (0, 1, ("raw",), ("row",), ("spot",))
         self.assertEqual(run_led(ROWS, plans, (12, 12), given), plain_run(ROWS, (12, 12), given))
 
+    def test_plans_that_just_fit(self):
+        for size, fit in [(8, True), (9, False)]:
+            given = given_for(TIGHT, (size,))
+            if fit:
+                self.assertEqual(run_led(TIGHT, TIGHT_PLANS, (size,), given), plain_run(TIGHT, (size,), given))
+                self.assertEqual(words_led(TIGHT, TIGHT_PLANS, (size,), given), (8, 64 + 16, 16))
+                self.assertEqual(len(Line(TIGHT, TIGHT_PLANS, (size,), given)), 3)
+            else:
+                for call in (run_led, words_led, Line):
+                    refused(self, Unfit, "about", 1, call, TIGHT, TIGHT_PLANS, (size,), given)
+
     def test_no_told_arrays_and_nothing_given(self):
         program = (("n",), (("a", "own", (by("n"),)),), (((("i", by("n")),), (put("a", (("i", 0),), ("loop", "i")),)),))
         self.assertEqual(run_led(program, [PLAIN], (3,), ()), ())
@@ -294,6 +305,11 @@ class Tried(unittest.TestCase):
         events = tuple(((group, 0), 0, (0,), "store", "b", (0,), 6) for group in (0, 1))
         self.assertEqual(self.make(*every, plan=local), ((0, "clash", events), None))
         self.assertEqual(self.make(("store", "b", (("num", 0),), ("num", 9)), plan=local)[0][1], "clash")
+
+    def test_a_run_that_is_too_long(self):
+        again = ("loop", 0, ("num", 0), ("num", 65535), (("loop", 1, ("num", 0), ("num", 65535), ()),))
+        kernels = [(1, by("n"), (), (again,)), *kernels_of(TIGHT, TIGHT_PLANS)[1:]]
+        self.assertEqual(tried(TIGHT, TIGHT_PLANS, kernels, (3,), GIVEN), (0, "end", ("long",)))
 
     def test_the_first_nest_that_errs(self):
         given = (tuple(range(9)),)

@@ -182,6 +182,12 @@ class LikePaper(unittest.TestCase):
         self.not_steady(("loop", 3, ONE, ONE, (("set", 3, LANE), ("if", reg(3), (FENCE,)))))
         self.not_steady(("load", 5, "mine", (ONE,)), ("if", reg(5), (FENCE,)))
 
+    def test_sizes_of_any_name(self):
+        sizes = ("group", "lane", "reg")
+        for name in sizes:
+            paper = like_paper(sizes, (("a", "own", (fixed(1),)),), (2, fixed(3), (), (("set", 5, ("size", name)), ("if", ("size", name), (FENCE,)))))
+            self.assertEqual([like for _, like in paper], [EVERY] * 3)
+
     def test_in_whatever_depth_nothing_set_is_like(self):
         rows = (("if", LANE, (("if", ONE, (("set", 1, ONE), ("set", 2, reg(1)))), ("if", reg(1), (("store", "mine", (ONE,), ONE),)))), FENCE)
         self.right(kernel(*rows), [EVERY] + [without(1, 2)] * 6)
