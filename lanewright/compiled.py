@@ -1,12 +1,12 @@
 """KERNELS of nests by PLANS."""
 
 from lanewright.errors import BadKind
-from lanewright.parts import arrays_by_name, is_row
+from lanewright.parts import arrays_by_name
 from lanewright.plans import accesses_by_array, need_plan, uses_by_plan
 from lanewright.programs import need_program
 from lanewright.words import WORDS
 
-# Near cells stand in rows of so many: NEAR_MOST words fit into as many rows, and no COUNT without TERMS tells more.
+# Near cells stand in rows of so many, since no COUNT without TERMS tells NEAR_MOST: that many fill as many rows.
 NEAR_ROW = 8
 NEAR_DIMS = ((8, ()), (8, ()))
 LETTERS = "abcdefghijklmnopqrstuvwxyz"
@@ -128,8 +128,8 @@ def count_rows(draft):
             draft.counts[name] = reg(into)
             rows.append(("set", into, num(fixed % WORDS)))
             for size, times in terms:
-                rows.append(do("mul", SPOT, ("size", size), num(times)))
-                rows.append(do("add", into, reg(into), reg(SPOT)))
+                # Added as often as it counts: that is at most three times.
+                rows.extend([do("add", into, reg(into), ("size", size))] * times)
     return rows
 
 

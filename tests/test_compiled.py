@@ -16,7 +16,7 @@ from lanewright.plans import is_fit, moved_parts, near_words, plain_plans
 from lanewright.programs import accesses_of, need_program, rounds_at
 from lanewright.steady import check_like, is_steady, like_paper
 from tests.helper import (
-    CROSS, LINE, MORE_PROGRAMS, ODD_NUMBERS, ODD_THINGS, PRODUCT, ROWS, Kept, Touchy, add, at, by, chance_program, count_of, fixed, given_for,
+    CROSS, LINE, MORE_PROGRAMS, ODD_NUMBERS, ODD_THINGS, PRODUCT, ROWS, Kept, Touchy, add, at, by, chance_program, fixed, given_for,
     num, put, refused, with_part,
 )
 from tests.test_leastplan import CHOICE, NEVER

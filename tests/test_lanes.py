@@ -8,7 +8,7 @@ from lanewright import lanes as lanes_file
 from lanewright.errors import BadGiven, BadKernel, BadNumber, BadProgram, BadSchedule, BadSizes, Gone, NoSuch
 from lanewright.lanes import Lanes, run_lanes
 from tests.helper import (
-    HEAD, NEARS, ODD_NUMBERS, ODD_THINGS, Kept, Touchy, by, chance_kernel, count_of, deep_list, fixed, kernel, num, refused, stand_for,
+    HEAD, ODD_NUMBERS, ODD_THINGS, Kept, Touchy, by, chance_kernel, count_of, deep_list, fixed, kernel, num, refused, stand_for,
     with_part,
 )
 from tests.test_clean import slow_clash_of

@@ -95,6 +95,11 @@ class Files(unittest.TestCase):
                 if isinstance(node, ast.ImportFrom):
                     self.look_at_import(node)
 
+    def test_nothing_is_imported_in_vain(self):
+        for file, _, tree in self.each():
+            names = {alias.name for node in tree.body if isinstance(node, ast.ImportFrom) for alias in node.names}
+            self.assertEqual(names - {node.id for node in ast.walk(tree) if isinstance(node, ast.Name)}, set(), file)
+
     def look_at_import(self, node):
         self.assertTrue(node.level == 0 and node.module.startswith("lanewright."))
         there = tree_of(PACKAGE / (node.module.split(".")[1] + ".py"))

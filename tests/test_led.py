@@ -12,7 +12,7 @@ from lanewright.led import Line, first_event, run_led, tried, words_led
 from lanewright.ledger import Turning, all_safe
 from lanewright.loose import free_loops
 from lanewright.plain import plain_run, stand_behind, tale
-from lanewright.plans import is_fit, moved, plain_plans
+from lanewright.plans import is_fit, moved
 from tests.helper import (
     CROSS, MORE_PROGRAMS, ODD_THINGS, PRODUCT, ROWS, Kept, Touchy, add, at, by, chance_program, fixed, given_for, num, put, refused,
     with_part,
